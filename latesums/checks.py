@@ -1,0 +1,34 @@
+"""What counts as a whole number, a width, a cell and a row: shared by the modules of the package."""
+
+
+def is_whole(value):
+    """Whether a value is a whole number; Booleans are none."""
+    return isinstance(value, int) and not isinstance(value, bool)
+
+
+def are_whole(values):
+    """Whether all items of a list or tuple are whole numbers."""
+    for value in values:
+        if not is_whole(value):
+            return False
+    return True
+
+
+def is_width(value):
+    """Whether a value is a width that cells can have."""
+    return is_whole(value) and 1 <= value <= 2
+
+
+def fits_cell(value, width):
+    """Whether a value is a cell of a width that is known to be one."""
+    return isinstance(value, tuple) and len(value) == width and are_whole(value)
+
+
+def fits_row(value, width):
+    """Whether a value is a row of cells of a width that is known to be one."""
+    if not isinstance(value, list):
+        return False
+    for cell in value:
+        if not fits_cell(cell, width):
+            return False
+    return True
