@@ -1,6 +1,6 @@
 """Changes of whole rows: one linear map with offsets for each cell, and perhaps a turn of the row."""
 
-from latesums.checks import are_whole, fits_row
+from latesums.checks import fits_row, is_line
 from latesums.errors import InvalidChange, InvalidList, InvalidNumber, InvalidRow
 
 
@@ -36,7 +36,7 @@ class Change:
 
     def then(self, other):
         """The change that does first this one, then the other one."""
-        if not isinstance(other, Change) or other.width != self.width:
+        if not fits_change(other, self.width):
             raise InvalidChange(other)
         matrix = [[dot(line, column) for column in zip(*self._matrix)] for line in other._matrix]
         offsets = changed_parts(other._matrix, other._offsets, self._offsets)
@@ -47,9 +47,9 @@ class Change:
                 and self._offsets == other._offsets and self.turns == other.turns)
 
 
-def is_line(value, many):
-    """Whether a value is a list of so many whole numbers."""
-    return isinstance(value, list) and len(value) == many and are_whole(value)
+def fits_change(value, width):
+    """Whether a value is a change of the cells of a width."""
+    return isinstance(value, Change) and value.width == width
 
 
 def is_matrix(value):

@@ -1,4 +1,4 @@
-"""What counts as a whole number, a width, a cell and a row: shared by the modules of the package."""
+"""What counts as a whole number, a width, a cell, a row and a name: shared by the modules of the package."""
 
 
 def is_whole(value):
@@ -32,3 +32,23 @@ def fits_row(value, width):
         if not fits_cell(cell, width):
             return False
     return True
+
+
+def is_line(value, many):
+    """Whether a value is a list of so many whole numbers."""
+    return isinstance(value, list) and len(value) == many and are_whole(value)
+
+
+def is_name(value):
+    """Whether a value is a string of 1 to 8 small letters."""
+    if not isinstance(value, str) or not 1 <= len(value) <= 8:
+        return False
+    for sign in value:
+        if not "a" <= sign <= "z":
+            return False
+    return True
+
+
+def is_named(value, taken):
+    """Whether a value is a tuple of a name that is not taken yet and of one thing more."""
+    return isinstance(value, tuple) and len(value) == 2 and is_name(value[0]) and value[0] not in taken

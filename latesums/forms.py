@@ -1,6 +1,6 @@
 """Cells, rows and forms: whole combinations of nested sums over rows."""
 
-from latesums.changes import Change
+from latesums.changes import fits_change
 from latesums.checks import fits_cell, fits_row, is_whole, is_width
 from latesums.errors import (InvalidCell, InvalidChange, InvalidForm, InvalidList, InvalidNumber, InvalidRow,
                              InvalidTerm)
@@ -62,7 +62,7 @@ class Form:
 
     def changed(self, change):
         """The form whose worth on every row is that of this one on the changed row."""
-        if not isinstance(change, Change) or change.width != self.width:
+        if not fits_change(change, self.width):
             raise InvalidChange(change)
         images = letter_images(self._terms, change)
         terms = []
@@ -103,6 +103,11 @@ class Form:
 
     def __neg__(self):
         return made_form(self.width, times(-1, self._terms))
+
+
+def fits_form(value, width):
+    """Whether a value is a form of a width."""
+    return isinstance(value, Form) and value.width == width
 
 
 def made_form(width, terms):

@@ -6,6 +6,8 @@ from itertools import combinations
 from latesums import errors
 from latesums.changes import Change
 from latesums.forms import Form
+from latesums.plans import Plan
+from latesums.wishes import Wish
 
 SECONDS = 10
 
@@ -35,8 +37,14 @@ def any_values():
     dicts = [{}, {"a": 1}, {0: (1,)}, {(1,): [1]}]
     objects = [Form(1, []), Form(1, [(1, ((1,),))]), Form(2, [(1, ((1, 0),))]), Change([[1]], [0]),
                Change([[1, 0], [0, 1]], [0, 0], turns=True), errors.InvalidNumber(1), errors.NothingToUndo()]
+    objects += [Wish(1, [], []), Wish(1, [("a", Form(1, [(1, ((1,),))]))], [("b", Change([[1]], [0]))]), Wish(2, [], []),
+                Plan(1, [], [], [], [], []), Plan(2, [1], [Form(2, [(1, ())])], [[(0, 0, 1)]], [], [("a", [1])])]
+    named = [("a", 1), ("a", Form(1, [])), ("a", Change([[1]], [0])), ["a", Form(1, [])], [("a", Form(1, []))],
+             [("a", Form(2, []))], [("a", Change([[1]], [0]))], [("a", Form(1, [])), ("a", Form(1, []))], [("a", [])],
+             [("a", [1])], [("a", [[1]])], [Form(1, [])], [Form(2, []), Form(1, [])], [Change([[1]], [0])],
+             [(0, 0, 1)], [[(0, 0, 1)]], [[(0, 0, True)]], [[(0, 1, 1)]], [[[0, 0, 1]]], ("empty",), ("cell", (1, 2))]
     deep = [nested(20, lambda value: [value]), nested(20, lambda value: (value,)), nested(20, lambda value: {1: value})]
-    return plain + lists + tuples + dicts + objects + deep
+    return plain + lists + tuples + dicts + objects + named + deep
 
 
 def whole(value):
@@ -74,6 +82,30 @@ def good_matrix(value):
 
 def good_change(value, width):
     return type(value) is Change and value.width == width
+
+
+def good_form(value, width):
+    return type(value) is Form and value.width == width
+
+
+def good_name(value):
+    return type(value) is str and 1 <= len(value) <= 8 and set(value) <= set("abcdefghijklmnopqrstuvwxyz")
+
+
+def bad_names():
+    """Values that are no names, though some are near to being ones."""
+    return ["", "abcdefghi", "A", "aB", "a b", "a1", "a_b", "\u00e4", "a\n", " a", "\u0430", "-", "{", "`", None, 1, True,
+            ("a",), ["a"], {"a": 1}]
+
+
+def first_bad(items, good):
+    """A list of the first item that is no tuple of a name, a new one, and of something good; of none if all are."""
+    taken = []
+    for item in items:
+        if type(item) is not tuple or len(item) != 2 or not good_name(item[0]) or item[0] in taken or not good(item[1]):
+            return [item]
+        taken.append(item[0])
+    return []
 
 
 def letter_by_hand(letter, cell):

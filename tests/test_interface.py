@@ -3,12 +3,17 @@
 import inspect
 import unittest
 
-from latesums import changes, errors, forms
+from latesums import changes, errors, forms, lots, plans, wishes
 from tests.samples import NAME_ERRORS, VALUE_ERRORS
 
 FUNCTIONS = [
     (forms.is_cell, "latesums.forms", "(value, width)"),
     (forms.is_row, "latesums.forms", "(value, width)"),
+    (lots.rank, "latesums.lots", "(wish)"),
+    (lots.in_lot, "latesums.lots", "(wish, form)"),
+    (lots.lot, "latesums.lots", "(wish)"),
+    (lots.worths, "latesums.lots", "(forms, row)"),
+    (plans.least_plan, "latesums.plans", "(wish)"),
 ]
 METHODS = [
     (forms.Form, "latesums.forms", {
@@ -18,6 +23,11 @@ METHODS = [
     (changes.Change, "latesums.changes", {
         "__init__": "(self, matrix, offsets, *, turns=False)", "matrix": "(self)", "offsets": "(self)",
         "row": "(self, row)", "then": "(self, other)", "__eq__": "(self, other)"}),
+    (wishes.Wish, "latesums.wishes", {
+        "__init__": "(self, width, asks, changes)", "asks": "(self)", "changes": "(self)", "__eq__": "(self, other)"}),
+    (plans.Plan, "latesums.plans", {
+        "__init__": "(self, width, empty, lift, joins, changes, asks)", "empty": "(self)", "lift": "(self)",
+        "joins": "(self)", "changes": "(self)", "asks": "(self)", "__len__": "(self)", "__eq__": "(self, other)"}),
 ]
 
 
@@ -41,6 +51,11 @@ class Interface(unittest.TestCase):
         self.assertEqual((vars(change)["width"], vars(change)["turns"]), (1, False))
         for form in (forms.Form(2, []) + forms.Form(2, []), -forms.Form(2, []), 2 * forms.Form(2, [])):
             self.assertEqual(vars(form)["width"], 2)
+        wish = wishes.Wish(2, [("a", forms.Form(2, [(1, ())]))], [])
+        self.assertEqual(vars(wish)["width"], 2)
+        self.assertEqual(vars(plans.Plan(2, [], [], [], [], []))["width"], 2)
+        self.assertEqual(vars(plans.least_plan(wish))["width"], 2)
+        self.assertEqual([vars(form)["width"] for form in lots.lot(wish)], [2])
 
     def test_errors(self):
         for name in VALUE_ERRORS + NAME_ERRORS:
@@ -59,6 +74,18 @@ class Interface(unittest.TestCase):
         self.assertEqual(change.then(other=change), change.then(change))
         self.assertIs(forms.is_cell(width=1, value=(1,)), True)
         self.assertIs(forms.is_row(width=1, value=[(1,)]), True)
+
+    def test_arguments_of_wishes_lots_and_plans_by_name(self):
+        form, change = forms.Form(1, [(1, ((1,),))]), changes.Change([[2]], [3])
+        wish = wishes.Wish(changes=[("b", change)], asks=[("a", form)], width=1)
+        self.assertEqual(wish, wishes.Wish(1, [("a", form)], [("b", change)]))
+        self.assertEqual(lots.rank(wish=wish), 3)
+        self.assertIs(lots.in_lot(form=form, wish=wish), True)
+        self.assertEqual(len(lots.lot(wish=wish)), 3)
+        self.assertEqual(lots.worths(row=[(1,), (2,)], forms=[form]), [3])
+        plan = plans.Plan(asks=[("a", [1])], changes=[("b", [[2]])], joins=[[(0, 0, 3)]], lift=[form], empty=[4], width=1)
+        self.assertEqual(plan, plans.Plan(1, [4], [form], [[(0, 0, 3)]], [("b", [[2]])], [("a", [1])]))
+        self.assertEqual(len(plans.least_plan(wish=wish)), 3)
 
     def test_turns_only_by_name(self):
         with self.assertRaises(TypeError):
