@@ -27,9 +27,13 @@ class Basis:
             found.append(many)
         return found[::-1]
 
+    def parts(self, vector):
+        """The factors of the vectors of which a vector is known to be a whole combination."""
+        return self.factors([vector.get(word, 0) for word in self.words])
+
     def told(self, vector):
         """The factors of the vectors of which a vector is the whole combination, None if it is none."""
-        factors = self.factors([vector.get(word, 0) for word in self.words])
+        factors = self.parts(vector)
         left = {word: factor for word, factor in vector.items()}
         for many, other in zip(factors, self.vectors):
             if many:

@@ -1,7 +1,7 @@
 """Plans: the numbers that a tree keeps for each stretch, and the tables by which they join and change."""
 
 from latesums.checks import are_whole, is_line, is_named, is_width
-from latesums.errors import InvalidAsk, InvalidItem, InvalidList, InvalidNumber
+from latesums.errors import InvalidAsk, InvalidItem, InvalidList, InvalidNumber, InvalidPlan, Unfit
 from latesums.forms import fits_form
 from latesums.lots import basis_of, check_wish
 from latesums.tables import change_table, empty_numbers, join_tables, lift_forms
@@ -134,3 +134,22 @@ def check_factors(asks, many):
         if not is_named(item, taken) or not is_line(item[1], many):
             raise InvalidAsk(item)
         taken[item[0]] = True
+
+
+def check_fit(plan, wish):
+    """Raises an error unless a value is a plan, another one a wish, and the plan fits it."""
+    if not isinstance(plan, Plan):
+        raise InvalidPlan(plan)
+    check_wish(wish)
+    missing = missing_names(plan, wish)
+    if missing:
+        raise Unfit(missing[0])
+
+
+def missing_names(plan, wish):
+    """The names of a wish that a plan misses, as the wish lists them; only None for a plan of another width."""
+    if plan.width != wish.width:
+        return [None]
+    asks, changes = dict(plan.asks()), dict(plan.changes())
+    missing = [name for name, _ in wish.asks() if name not in asks]
+    return missing + [name for name, _ in wish.changes() if name not in changes]

@@ -35,13 +35,25 @@ def cut_vectors(vector):
     """The vectors that are left of a vector behind each first letter, and ahead of each last one."""
     # The cells that are put in ahead make of a form the form itself and all of these, each times the worth of its
     # letter at the cell. Worths of unlike letters are independent, so these are just what comes in by such cells.
+    return list(tails_of(vector).values()) + list(heads_of(vector).values())
+
+
+def tails_of(vector):
+    """For each first letter the vector that is left behind it."""
     behind = {word[0]: {} for word in vector if word}
-    ahead = {word[-1]: {} for word in vector if word}
     for word, factor in vector.items():
         if word:
             behind[word[0]][word[1:]] = factor
+    return behind
+
+
+def heads_of(vector):
+    """For each last letter the vector that is left ahead of it."""
+    ahead = {word[-1]: {} for word in vector if word}
+    for word, factor in vector.items():
+        if word:
             ahead[word[-1]][word[:-1]] = factor
-    return list(behind.values()) + list(ahead.values())
+    return ahead
 
 
 class Mover:

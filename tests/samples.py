@@ -43,6 +43,9 @@ def any_values():
              [("a", Form(2, []))], [("a", Change([[1]], [0]))], [("a", Form(1, [])), ("a", Form(1, []))], [("a", [])],
              [("a", [1])], [("a", [[1]])], [Form(1, [])], [Form(2, []), Form(1, [])], [Change([[1]], [0])],
              [(0, 0, 1)], [[(0, 0, 1)]], [[(0, 0, True)]], [[(0, 1, 1)]], [[[0, 0, 1]]], ("empty",), ("cell", (1, 2))]
+    cell = ("cell", (1,))
+    named += [("join", cell, cell), [cell, cell], ("change", "b", cell), [("empty",)], ("before", (1,)), [("before", (1,))],
+              ("change", "b"), ("join", cell, ("empty",)), [("join", cell, cell)], ["empty"]]
     deep = [nested(20, lambda value: [value]), nested(20, lambda value: (value,)), nested(20, lambda value: {1: value})]
     return plain + lists + tuples + dicts + objects + named + deep
 

@@ -3,7 +3,7 @@
 import inspect
 import unittest
 
-from latesums import changes, errors, forms, lots, plans, wishes
+from latesums import changes, contexts, errors, forms, lots, plans, steady, stories, wishes
 from tests.samples import NAME_ERRORS, VALUE_ERRORS
 
 FUNCTIONS = [
@@ -14,6 +14,19 @@ FUNCTIONS = [
     (lots.lot, "latesums.lots", "(wish)"),
     (lots.worths, "latesums.lots", "(forms, row)"),
     (plans.least_plan, "latesums.plans", "(wish)"),
+    (stories.row_of, "latesums.stories", "(wish, story)"),
+    (stories.numbers_of, "latesums.stories", "(plan, wish, story)"),
+    (stories.is_right, "latesums.stories", "(plan, wish)"),
+    (stories.wrong_story, "latesums.stories", "(plan, wish)"),
+    (stories.is_paper, "latesums.stories", "(plan, wish, stories)"),
+    (stories.paper, "latesums.stories", "(plan, wish)"),
+    (steady.unsteady, "latesums.steady", "(plan, wish)"),
+    (contexts.row_behind, "latesums.contexts", "(wish, row, steps)"),
+    (contexts.told_apart, "latesums.contexts", "(wish, one, other)"),
+    (contexts.alike, "latesums.contexts", "(wish, one, other)"),
+    (contexts.apart, "latesums.contexts", "(wish, one, other)"),
+    (contexts.swaps, "latesums.contexts", "(wish)"),
+    (contexts.loses, "latesums.contexts", "(wish, name)"),
 ]
 METHODS = [
     (forms.Form, "latesums.forms", {
