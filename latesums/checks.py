@@ -6,6 +6,11 @@ def is_whole(value):
     return isinstance(value, int) and not isinstance(value, bool)
 
 
+def is_place(value, low, high):
+    """Whether a value is a whole number from one to another one."""
+    return is_whole(value) and low <= value <= high
+
+
 def are_whole(values):
     """Whether all items of a list or tuple are whole numbers."""
     for value in values:

@@ -6,20 +6,29 @@ from latesums.forms import letter_worth
 class Keeper:
     """The tables of plans that fit a wish, their numbers side by side, for the cells and changes of this wish.
 
-    All numbers are exact where the modulus is None, and are reduced by it otherwise.
+    `starts` are the numbers of the row without cells, `lifts` tell those of cells, `products` those of joins, `tables`
+    what becomes of numbers by each change; `moves` are the changes themselves, by name. All numbers are exact where
+    the modulus is None, and are reduced by it otherwise.
     """
 
     def __init__(self, plans, wish):
-        self.lifts = []
-        self.products = []
-        self.tables = {name: [] for name, _ in wish.changes()}
+        starts = []
+        lifts = []
+        products = []
+        tables = {name: [] for name, _ in wish.changes()}
         for plan in plans:
-            shift = len(self.lifts)
-            self.lifts = self.lifts + [cell_letters(form) for form in plan.lift()]
-            self.products = self.products + [shifted(line, shift) for line in plan.joins()]
+            shift = len(lifts)
+            starts.extend(plan.empty())
+            lifts.extend([cell_letters(form) for form in plan.lift()])
+            products.extend([shifted(line, shift) for line in plan.joins()])
             for name, matrix in plan.changes():
-                if name in self.tables:
-                    self.tables[name] = self.tables[name] + [short_line(line, shift) for line in matrix]
+                if name in tables:
+                    tables[name] = tables[name] + [short_line(line, shift) for line in matrix]
+        self.starts = starts
+        self.lifts = lifts
+        self.products = products
+        self.tables = tables
+        self.moves = dict(wish.changes())
 
     def of_cell(self, cell, modulus):
         """The numbers of a row of one cell."""

@@ -1,6 +1,7 @@
 """Reaches: what is asked of rows behind context steps, as vectors, by the fewest steps that tell two rows apart."""
 
 from latesums.echelons import Echelon
+from latesums.keepers import reduced
 from latesums.lots import basis_of
 from latesums.vectors import Mover, heads_of, tails_of, vector_of, word_worths
 
@@ -59,7 +60,9 @@ class Reach:
 
     def meet(self, vector, move, back, depth):
         """Takes a vector that is no sum of multiples of found ones."""
-        if self.apart is not None or not self.echelon.grow(self.basis.parts(vector)):
+        if self.apart is not None:
+            return
+        if not self.echelon.grow(reduced(self.basis.parts(vector), self.echelon.modulus)):
             return
         if self.gap.of(vector) != 0:
             self.apart = len(self.found)

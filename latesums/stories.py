@@ -4,14 +4,12 @@ from latesums.bounds import fault_bits, minor_bits
 from latesums.echelons import Echelon
 from latesums.errors import InvalidStory
 from latesums.hunts import Hunt
-from latesums.keepers import Keeper, short_line
+from latesums.keepers import Keeper, reduced, short_line
 from latesums.lots import check_wish
 from latesums.moduli import FIRST_BITS, LONG_BITS, modulus_of, prime_from
 from latesums.plans import check_fit, least_plan
 from latesums.proofs import is_proved
-from latesums.tales import is_tale, numbers_by, row_by
-
-EMPTY = ("empty",)
+from latesums.tales import EMPTY, is_tale, numbers_by, row_by
 
 
 def row_of(wish, story):
@@ -131,7 +129,7 @@ def has_rank(lists, many):
     while covered <= needed:
         echelon = Echelon(max([len(numbers) for numbers in lists], default=0), modulus_of(bits))
         for numbers in lists:
-            echelon.grow(numbers)
+            echelon.grow(reduced(numbers, echelon.modulus))
         if len(echelon.pivots) >= many:
             return True
         if not echelon.broken:

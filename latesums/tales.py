@@ -2,6 +2,8 @@
 
 from latesums.checks import fits_cell
 
+EMPTY = ("empty",)
+
 
 def is_tale(story, wish):
     """Whether a value is a story with cells of a wish."""

@@ -6,7 +6,10 @@ from itertools import combinations
 from latesums import errors
 from latesums.changes import Change
 from latesums.forms import Form
+from latesums.library import Library
+from latesums.live import Live
 from latesums.plans import Plan
+from latesums.trees import Tree
 from latesums.wishes import Wish
 
 SECONDS = 10
@@ -46,6 +49,8 @@ def any_values():
     cell = ("cell", (1,))
     named += [("join", cell, cell), [cell, cell], ("change", "b", cell), [("empty",)], ("before", (1,)), [("before", (1,))],
               ("change", "b"), ("join", cell, ("empty",)), [("join", cell, cell)], ["empty"]]
+    tree = Tree(Plan(1, [], [], [], [], []), Wish(1, [], []), [(1,)])
+    objects += [tree, Tree(Plan(2, [], [], [], [], []), Wish(2, [], []), []), Live(tree), Library()]
     deep = [nested(20, lambda value: [value]), nested(20, lambda value: (value,)), nested(20, lambda value: {1: value})]
     return plain + lists + tuples + dicts + objects + named + deep
 

@@ -3,7 +3,8 @@
 import inspect
 import unittest
 
-from latesums import changes, contexts, errors, forms, lots, plans, steady, stories, wishes
+from latesums import (changes, contexts, errors, forms, library, live, lots, plans, steady, stories, texts, trees,
+                      wishes)
 from tests.samples import NAME_ERRORS, VALUE_ERRORS
 
 FUNCTIONS = [
@@ -27,6 +28,8 @@ FUNCTIONS = [
     (contexts.apart, "latesums.contexts", "(wish, one, other)"),
     (contexts.swaps, "latesums.contexts", "(wish)"),
     (contexts.loses, "latesums.contexts", "(wish, name)"),
+    (texts.text_of, "latesums.texts", "(form)"),
+    (texts.read_form, "latesums.texts", "(text, width)"),
 ]
 METHODS = [
     (forms.Form, "latesums.forms", {
@@ -41,6 +44,21 @@ METHODS = [
     (plans.Plan, "latesums.plans", {
         "__init__": "(self, width, empty, lift, joins, changes, asks)", "empty": "(self)", "lift": "(self)",
         "joins": "(self)", "changes": "(self)", "asks": "(self)", "__len__": "(self)", "__eq__": "(self, other)"}),
+    (trees.Tree, "latesums.trees", {
+        "__init__": "(self, plan, wish, row)", "changed": "(self, name, low=0, high=None)",
+        "part": "(self, low=0, high=None)", "__add__": "(self, other)", "row": "(self)", "__len__": "(self)",
+        "numbers": "(self)", "waiting": "(self)", "shape": "(self)", "told": "(self, name, low=0, high=None)",
+        "story": "(self)", "__eq__": "(self, other)"}),
+    (live.Live, "latesums.live", {
+        "__init__": "(self, tree)", "tree": "(self)", "__len__": "(self)", "told": "(self, name, low=0, high=None)",
+        "change": "(self, name, low=0, high=None)", "put": "(self, at, cell)", "drop": "(self, low, high)",
+        "move": "(self, low, high, at)", "keep": "(self, name)", "kept": "(self)", "edition": "(self, name)",
+        "go": "(self, name)", "back": "(self)", "log": "(self)", "copy": "(self)", "__eq__": "(self, other)"}),
+    (library.Library, "latesums.library", {
+        "__init__": "(self)", "put": "(self, name, wish)", "drop": "(self, name)", "change": "(self, name, wish)",
+        "wish_of": "(self, name)", "names": "(self)", "kept_by": "(self, plan)", "same_lot": "(self, wish)",
+        "back": "(self)", "log": "(self)", "copy": "(self)", "__len__": "(self)", "__contains__": "(self, name)",
+        "__eq__": "(self, other)"}),
 ]
 
 
@@ -69,6 +87,10 @@ class Interface(unittest.TestCase):
         self.assertEqual(vars(plans.Plan(2, [], [], [], [], []))["width"], 2)
         self.assertEqual(vars(plans.least_plan(wish))["width"], 2)
         self.assertEqual([vars(form)["width"] for form in lots.lot(wish)], [2])
+        plan = plans.least_plan(wish)
+        tree = trees.Tree(plan, wish, [(1, 2)])
+        for one in (tree, tree.part(0, 0), tree + tree, live.Live(tree).tree()):
+            self.assertEqual((vars(one)["plan"], vars(one)["wish"]), (plan, wish))
 
     def test_errors(self):
         for name in VALUE_ERRORS + NAME_ERRORS:
