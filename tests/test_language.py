@@ -117,6 +117,31 @@ class Language(unittest.TestCase):
                        if isinstance(node, ast.Name) and isinstance(node.ctx, ast.Store)]
             self.assertFalse(set(imported + classes) & set(stored))
 
+    def test_no_files_import_from_each_other(self):
+        sources = {}
+        for path in FILES:
+            tree = ast.parse(path.read_text(encoding="utf-8"))
+            sources[path.stem] = {node.module.split(".")[1] for node in ast.walk(tree)
+                                  if isinstance(node, ast.ImportFrom) and node.module.startswith("latesums.")}
+        while sources:
+            free = [name for name, behind in sources.items() if not behind & set(sources)]
+            self.assertTrue(free, "these files import from each other: " + " ".join(sorted(sources)))
+            for name in free:
+                del sources[name]
+
+    def test_no_name_is_a_method_and_an_attribute(self):
+        methods, stored, read = set(), set(), set()
+        for text, tree in self.each():
+            for node in ast.walk(tree):
+                if isinstance(node, ast.ClassDef):
+                    methods |= {part.name for part in node.body if isinstance(part, ast.FunctionDef)}
+                elif isinstance(node, ast.Attribute):
+                    (stored if isinstance(node.ctx, ast.Store) else read).add(node.attr)
+        self.assertFalse(methods & stored)
+        builtin = {name for kind in (str, list, dict, set, int, tuple) for name in dir(kind)}
+        self.assertFalse(stored & builtin)
+        self.assertFalse(read - stored - methods - builtin)
+
     def test_strings(self):
         for text, tree in self.each():
             for node in ast.walk(tree):
